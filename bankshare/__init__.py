@@ -1,0 +1,1 @@
+"""Bankshare: a bank of dry and wet ground, dealt out by few cuts."""

@@ -47,6 +47,14 @@ def ground_of(bank):
     return (sum_of(bank, DRY), sum_of(bank, WET))
 
 
+# Dry goes ahead of wet where neither sum is a multiple of the count: the refusals name one ground alone.
+def uneven_ground(bank, count):
+    for ground in (DRY, WET):
+        if sum_of(bank, ground) % count != 0:
+            return ground
+    return None
+
+
 def checked_end(bank, start, end):
     whole = length(bank)
     last = whole if end is None else end
@@ -78,3 +86,22 @@ def between(bank, start=0, end=None):
 def rest(bank, start=0, end=None):
     last = checked_end(bank, start, end)
     return tidy(part(bank, 0, start) + part(bank, last, length(bank)))
+
+
+# Two rows of tuples (name, long), both equally long in all, as one of tuples (name, other's name, long):
+# so what they have in common is reckoned by runs, however great the longs are.
+def side_by_side(rows, others):
+    left = list(reversed(rows))
+    others_left = list(reversed(others))
+    runs = []
+    while len(left) > 0:
+        row = left.pop()
+        other = others_left.pop()
+        both = min(row[1], other[1])
+        runs.append((row[0], other[0], both))
+        # What reaches beyond the shorter one stands beside what comes next in the other row.
+        if row[1] > both:
+            left.append((row[0], row[1] - both))
+        if other[1] > both:
+            others_left.append((other[0], other[1] - both))
+    return runs

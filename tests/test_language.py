@@ -129,6 +129,59 @@ class Language(unittest.TestCase):
                         self.assertIsInstance(right, ast.Constant, where)
                         self.assertIn(right.value, (None, True, False), where)
 
+    def test_comprehensions_and_written_texts(self):
+        for where, node in self.each_node():
+            if isinstance(node, ast.ListComp):
+                self.assertEqual(len(node.generators), 1, where)
+                self.assertLessEqual(len(node.generators[0].ifs), 1, where)
+            if isinstance(node, ast.FormattedValue):
+                self.assertIsInstance(node.value, ast.Name, where)
+                self.assertIn(node.conversion, (-1, ord("r")), where)
+                self.assertIsNone(node.format_spec, where)
+
+    def test_the_top_of_a_file(self):
+        for path in sources():
+            body = ast.parse(path.read_text(encoding="utf-8")).body
+            self.assertIsInstance(body[0].value.value, str, path.name)
+            for node in body[1:]:
+                self.assertIsInstance(node, (ast.ImportFrom, ast.FunctionDef, ast.ClassDef, ast.Assign), path.name)
+
+    def test_a_statement_that_is_a_value_is_a_call(self):
+        for path in sources():
+            tree = ast.parse(path.read_text(encoding="utf-8"))
+            for node in ast.walk(tree):
+                if isinstance(node, ast.Expr) and node is not tree.body[0]:
+                    self.assertIsInstance(node.value, ast.Call, f"{path.name}:{node.lineno}")
+
+    def test_sets_stand_within_sorted_and_len_alone(self):
+        for path in sources():
+            tree = ast.parse(path.read_text(encoding="utf-8"))
+            calls = [node for node in ast.walk(tree) if isinstance(node, ast.Call) and isinstance(node.func, ast.Name)]
+            within = [call.args[0] for call in calls if call.func.id in ("sorted", "len")]
+            for call in calls:
+                if call.func.id in ("set", "frozenset"):
+                    self.assertIn(call, within, f"{path.name}:{call.lineno}")
+
+    def test_no_local_is_called_like_a_class_or_an_import(self):
+        for path in sources():
+            tree = ast.parse(path.read_text(encoding="utf-8"))
+            taken = [name.name for node in tree.body if isinstance(node, ast.ImportFrom) for name in node.names]
+            taken = taken + [node.name for node in tree.body if isinstance(node, ast.ClassDef)]
+            for node in ast.walk(tree):
+                if isinstance(node, (ast.Name, ast.arg)):
+                    for name in bound_names(node):
+                        self.assertNotIn(name, taken, f"{path.name}:{node.lineno}")
+
+    def test_no_two_files_draw_from_one_another(self):
+        drawn = {}
+        for path in sources():
+            tree = ast.parse(path.read_text(encoding="utf-8"))
+            drawn[path.stem] = {node.module.split(".")[-1] for node in tree.body if isinstance(node, ast.ImportFrom)}
+        while drawn:
+            free = [name for name in drawn if not drawn[name] & set(drawn)]
+            self.assertNotEqual(free, [], drawn)
+            drawn = {name: drawn[name] for name in drawn if name not in free}
+
 
 if __name__ == "__main__":
     unittest.main()

@@ -1,14 +1,11 @@
 """[1], [5], [6]: length and ground of a bank, the ground between two places, the bank cut out, and the rest."""
 
-import inspect
 import unittest
 
-from bankshare import banks
 from bankshare.banks import between, cut_out, ground_of, length, rest
 from bankshare.errors import BankError, OffBank
-from samples import bank_of, ground_in, letters, small_banks
+from samples import SIXTY, bank_of, ground_in, letters, small_banks
 
-SIXTY = 10 ** 60 - 1
 BANK = [("dry", 3), ("wet", 4), ("dry", 5)]
 
 
@@ -223,20 +220,6 @@ class HandedIn(unittest.TestCase):
         bank.append(("wet", 1))
         self.assertEqual(whole, BANK)
         self.assertEqual(left, BANK)
-
-
-class Interface(unittest.TestCase):
-    def test_names_arguments_and_defaults(self):
-        wanted = {
-            "tidy": "(rows)",
-            "length": "(bank)",
-            "ground_of": "(bank)",
-            "between": "(bank, start=0, end=None)",
-            "cut_out": "(bank, start=0, end=None)",
-            "rest": "(bank, start=0, end=None)",
-        }
-        for name, arguments in wanted.items():
-            self.assertEqual(str(inspect.signature(getattr(banks, name))), arguments, name)
 
 
 if __name__ == "__main__":

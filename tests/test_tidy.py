@@ -5,9 +5,7 @@ import unittest
 
 from bankshare.banks import tidy
 from bankshare.errors import BankError, NoGround, NoLength
-from samples import bank_of, letters, small_banks
-
-SIXTY = 10 ** 60 - 1
+from samples import SIXTY, EqualToAll, bank_of, letters, small_banks
 
 WRONG_GROUNDS = [
     "", "d", "w", "Dry", "DRY", "Wet", "WET", " dry", "dry ", "wet ", " wet", "dry\n", "dryy", "wett", "drywet",
@@ -19,16 +17,6 @@ WRONG_LONGS = [
     -1, -2, -SIXTY, True, False, None, "", "0", "1", "12", "dry", "-1",
     [], [1], (), (1,), {}, {1: 1}, {1}, 0.0, 1.0, 1.5, float("nan"), float("inf"), 1j, b"1", object(), int,
 ]
-
-
-class EqualToAll:
-    """Calls itself equal to whatever it is compared with."""
-
-    def __eq__(self, other):
-        return True
-
-    def __hash__(self):
-        return hash("dry")
 
 
 class Tidied(unittest.TestCase):
